@@ -204,6 +204,60 @@ func TestDivisionCorrections(t *testing.T) { // P1.3
 	}
 }
 
+// TestLongDivision divides numbers that are so long that the division is split.
+func TestLongDivision(t *testing.T) { // P1.3
+	r := rand.New(rand.NewSource(40))
+	ones := func(n int) api.Int {
+		return api.Int{Neg: r.Intn(2) == 0, Mag: slices.Repeat([]uint32{math.MaxUint32}, n)}
+	}
+	long := func(n int) api.Int {
+		a := randomInt(r, n)
+		a.Mag = append(a.Mag, slices.Repeat([]uint32{r.Uint32()}, n-len(a.Mag))...)
+		switch r.Intn(4) {
+		case 0:
+			return ones(n)
+		case 1:
+			clear(a.Mag[:n-1])
+			return bigint.Sub(a, bigint.Of(r.Intn(3)))
+		}
+		a.Mag[n-1] |= 1
+		return a
+	}
+	for i := range 800 {
+		b := long(2 + r.Intn(400))
+		q := long(1 + r.Intn(400))
+		rest := long(1 + r.Intn(400))
+		a := bigint.Mul(q, b)
+		if i%4 != 0 {
+			a = bigint.Add(a, rest)
+		}
+		checkDivision(t, a, b)
+		checkDivision(t, bigint.Sub(a, bigint.Of(1)), b)
+	}
+	for _, n := range [][2]int{{5000, 1000}, {5000, 101}, {5000, 99}, {5000, 4890}, {3001, 2}, {4000, 2000}} {
+		checkDivision(t, ones(n[0]), ones(n[1]))
+		checkDivision(t, long(n[0]), long(n[1]))
+	}
+}
+
+func checkDivision(t *testing.T, a, b api.Int) {
+	t.Helper()
+	if bigint.Sign(b) == 0 {
+		return
+	}
+	before := slices.Clone(a.Mag)
+	q, rest, e := bigint.DivMod(a, b)
+	wantQ, wantR := new(big.Int).DivMod(toBig(a), toBig(b), new(big.Int))
+	if e != api.OK || !slices.Equal(a.Mag, before) {
+		t.Fatal(a, b, e)
+	}
+	checkInt(t, "quotient", q, wantQ)
+	checkInt(t, "remainder", rest, wantR)
+	if exact, e := bigint.Exact(a, b); (e == api.OK) != (wantR.Sign() == 0) || e == api.OK && !same(exact, q) {
+		t.Fatal(a, b, e)
+	}
+}
+
 func TestDivisors(t *testing.T) { // P1.4
 	r := rand.New(rand.NewSource(5))
 	for i := range 6000 {
