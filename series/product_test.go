@@ -4,6 +4,7 @@ import (
 	"math"
 	"math/big"
 	"math/rand"
+	"strconv"
 	"testing"
 
 	"halfplane/api"
@@ -55,6 +56,52 @@ func TestMulLimits(t *testing.T) { // P33.3
 	expect(t, "Mul", got, e, read(of(1000)))
 	got, e = series.Mul(of(600, 1, 2, 3), of(398, 1, 2, 3))
 	expect(t, "Mul", got, e, read(of(998, 1, 4)))
+}
+
+func TestMulSizes(t *testing.T) { // P33.3: products and their sums are not cut off anywhere
+	for _, count := range []int{1, 3, 7, 8, 15} {
+		for x := 24; x <= 50; x++ {
+			for y := 26; y <= 64; y++ {
+				size := x + y + len(strconv.FormatInt(int64(count), 2))
+				if size%32 < 30 && size%32 > 1 {
+					continue
+				}
+				// The greatest numbers with x and y bits.
+				a, b := greatest(uint(x), count), greatest(uint(y), count)
+				minus, _ := series.Scale(fraction(-1, 1), a)
+				for _, f := range []api.Series{a, minus} {
+					got, e := series.Mul(f, b)
+					expect(t, "Mul", got, e, times(read(f), read(b)))
+				}
+			}
+		}
+	}
+}
+
+// greatest returns a series with the coefficients 2^bits - 1.
+func greatest(bits uint, count int) api.Series {
+	c := new(big.Int).Lsh(big.NewInt(1), bits)
+	c.Sub(c, big.NewInt(1))
+	a := api.Series{}
+	for range count {
+		a.Coef = append(a.Coef, api.Rat{Num: fromBig(c), Den: fraction(1, 1).Num})
+	}
+	return a
+}
+
+func TestWholePrecision(t *testing.T) { // P33.3, P33.4, P33.5: from -MaxPole to MaxPrec
+	a := of(-100, make([]int64, 1100)...)
+	a.Coef[0], a.Coef[1099] = fraction(1, 1), fraction(5, 1)
+	one := of(0, append([]int64{1}, make([]int64, 999)...)...)
+	got, e := series.Mul(a, one)
+	expect(t, "Mul", got, e, laurent{coef: read(a).coef, prec: 900})
+	long := of(-50, append([]int64{1}, make([]int64, 1049)...)...)
+	got, e = series.Mul(long, long)
+	expect(t, "Mul", got, e, from(-100, 950, func(n int) *big.Rat { return big.NewRat(int64(max(0, -99-n)), 1) }))
+	got, e = series.Power(a, 1)
+	expect(t, "Power", got, e, read(a))
+	got, e = series.Expand(long, 2)
+	expect(t, "Expand", got, e, from(-100, 1000, func(n int) *big.Rat { return big.NewRat(int64(max(0, -99-n)), 1) }))
 }
 
 func TestInverse(t *testing.T) { // P33.3
