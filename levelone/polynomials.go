@@ -59,9 +59,9 @@ func polynomial(a api.Series) api.Poly {
 		return nil
 	}
 	f := make(api.Poly, degree+1)
-	// Each power of j needs as many coefficients as there are in what is left of a.
+	// The coefficients from q^-degree to q^0 determine f.
 	base := j(degree)
-	rest, _ := series.Cut(a, 1)
+	rest := a
 	for i := degree; i >= 0; i-- {
 		f[i], _ = series.At(rest, -i)
 		power, _ := series.Power(base, i)
