@@ -5,6 +5,7 @@ import (
 	"halfplane/arith"
 	"halfplane/bigint"
 	"halfplane/dimension"
+	"halfplane/homogeneous"
 	"halfplane/projline"
 )
 
@@ -68,32 +69,8 @@ func (m space) addImage(v []api.Int, n int, g api.Mat2) {
 	if !ok {
 		return
 	}
-	for _, c := range form(g, x.Exp, m.degree()) {
+	for _, c := range homogeneous.Monomial(x.Exp, m.degree(), g) {
 		v[k] = bigint.Add(v[k], bigint.Mul(bigint.Of(sign), c))
 		k += len(m.pairs)
 	}
-}
-
-// form returns the coefficients of (a X + b Y)^i (c X + d Y)^(degree - i), where that of
-// X^n Y^(degree - n) has the index n.
-func form(g api.Mat2, i, degree int) []api.Int {
-	f := []api.Int{bigint.Of(1)}
-	for n := range degree {
-		if n < i {
-			f = timesLinear(f, g.A, g.B)
-		} else {
-			f = timesLinear(f, g.C, g.D)
-		}
-	}
-	return f
-}
-
-// timesLinear returns f times x X + y Y.
-func timesLinear(f []api.Int, x, y int) []api.Int {
-	product := make([]api.Int, len(f)+1)
-	for n, c := range f {
-		product[n] = bigint.Add(product[n], bigint.Mul(bigint.Of(y), c))
-		product[n+1] = bigint.Mul(bigint.Of(x), c)
-	}
-	return product
 }

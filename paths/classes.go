@@ -8,6 +8,7 @@ import (
 	"halfplane/arith"
 	"halfplane/bigint"
 	"halfplane/contfrac"
+	"halfplane/homogeneous"
 	"halfplane/projline"
 	"halfplane/qpoly"
 	"halfplane/rational"
@@ -28,7 +29,7 @@ func class(m *symbols.Module, poly []api.Rat, chain []api.Cusp) ([]api.Rat, api.
 			return nil, api.ErrMember
 		}
 		n, sign := locate(s, points, g.C, g.D)
-		for _, x := range substitute(integers, len(poly)-1, g) {
+		for _, x := range homogeneous.Substitute(integers, len(poly)-1, g) {
 			sum[n] = bigint.Add(sum[n], bigint.Mul(bigint.Of(sign), x))
 			n += len(points)
 		}
@@ -44,34 +45,6 @@ func locate(s api.Spec, points []api.ProjPoint, u, v int) (n, sign int) {
 		return cmp.Or(cmp.Compare(x.U, y.U), cmp.Compare(x.V, y.V))
 	})
 	return n, arith.Kronecker(s.Disc, p.Unit)
-}
-
-// substitute returns P(a X + b Y, c X + d Y) for a polynomial P of a degree, of which the
-// last zeros may be missing.
-func substitute(poly []api.Int, degree int, g api.Mat2) []api.Int {
-	// This is Horner's rule for P as a polynomial in a X + b Y; power is that of c X + d Y.
-	var sum []api.Int
-	power := []api.Int{bigint.Of(1)}
-	for i := degree; i >= 0; i-- {
-		sum = timesLinear(sum, g.A, g.B)
-		if i < len(poly) {
-			for n, x := range power {
-				sum[n] = bigint.Add(sum[n], bigint.Mul(poly[i], x))
-			}
-		}
-		power = timesLinear(power, g.C, g.D)
-	}
-	return sum
-}
-
-// timesLinear returns f times x X + y Y, where the coefficient of X^n has the index n.
-func timesLinear(f []api.Int, x, y int) []api.Int {
-	product := make([]api.Int, len(f)+1)
-	for n, c := range f {
-		product[n] = bigint.Add(product[n], bigint.Mul(bigint.Of(y), c))
-		product[n+1] = bigint.Mul(bigint.Of(x), c)
-	}
-	return product
 }
 
 // fractions returns the multiples of integers by a factor.
