@@ -1,5 +1,5 @@
 // Package symbolmap makes the matrices of linear maps between spaces of modular symbols
-// from the images of the free symbols. It is no layer of the document: the operators of
+// from the images of the free symbols, or of some of the Manin symbols. It is no layer of the document: the operators of
 // several layers are such maps, and it takes much less time to add up the images as
 // combinations of Manin symbols, and then to find their classes, than to find the class of
 // every image.
@@ -24,8 +24,7 @@ type Map struct {
 	weight  int
 	symbols []symbol
 	table   table
-	// sums[i] is the image of the free symbol i: a combination of the Manin symbols of the
-	// target.
+	// sums[i] is the image of symbols[i]: a combination of the Manin symbols of the target.
 	sums [][]api.Int
 }
 
@@ -38,11 +37,17 @@ type symbol struct {
 
 // New returns the map 0 between two modules, which may be the same one.
 func New(source, target *symbols.Module) *Map {
-	s, below := source.Spec(), target.Spec()
+	return Of(source.Spec(), source.Free(), target)
+}
+
+// Of returns the map 0 from the classes of some Manin symbols of a Spec, which are given by
+// their numbers, to a module.
+func Of(s api.Spec, numbers []int, target *symbols.Module) *Map {
+	below := target.Spec()
 	m := &Map{target: target, weight: s.Weight, table: tableOf(below)}
 	points, _ := projline.Count(s.Level)
 	count, _ := manin.Count(below)
-	for _, n := range source.Free() {
+	for _, n := range numbers {
 		lift, _ := projline.Lift(s.Level, n%points)
 		m.symbols = append(m.symbols, symbol{n / points, lift})
 		m.sums = append(m.sums, make([]api.Int, count))
@@ -82,7 +87,7 @@ func (m *Map) Translate(g api.Mat2, factor int) {
 	}
 }
 
-// Matrix returns the matrix of the map.
+// Matrix returns the matrix of the map: its rows are the images of the symbols.
 func (m *Map) Matrix() api.Matrix {
 	rows := make([][]api.Rat, len(m.sums))
 	for i, sum := range m.sums {
@@ -96,8 +101,8 @@ func (m *Map) Matrix() api.Matrix {
 	return a
 }
 
-// add adds factor [P, (u, v)] to the image of the free symbol i, or nothing if there is no
-// such symbol; factor is 1 or -1.
+// add adds factor [P, (u, v)] to the image of symbols[i], or nothing if there is no such
+// symbol; factor is 1 or -1.
 func (m *Map) add(i int, poly []api.Int, u, v, factor int) {
 	p := m.table.places[m.table.at(u, v)]
 	if p.sign == 0 {

@@ -160,6 +160,28 @@ func TestLevels(t *testing.T) {
 	}
 }
 
+func TestOf(t *testing.T) {
+	for _, m := range modules(t) {
+		s := m.Spec()
+		count, _ := manin.Count(s)
+		numbers := []int{count - 1, 0, count / 2, 0, count / 3}
+		g := api.Mat2{A: 3, B: 1, C: 1, D: 2}
+		for _, l := range [][]int{nil, numbers[:1], numbers} {
+			x := symbolmap.Of(s, l, m)
+			x.Act(g)
+			a := x.Matrix()
+			if a.Rows != len(l) || a.Cols != m.Dim() {
+				t.Fatalf("%v, %v: %v", s, l, a)
+			}
+			for i, n := range l {
+				if row, _ := matrix.Row(a, i); !slices.EqualFunc(row, acted(t, m, n, g), func(x, y api.Rat) bool { return rational.Cmp(x, y) == 0 }) {
+					t.Errorf("%v: the image of symbol %d is %v", s, n, row)
+				}
+			}
+		}
+	}
+}
+
 func TestSums(t *testing.T) {
 	for _, m := range modules(t) {
 		x := symbolmap.New(m, m)
