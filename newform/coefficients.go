@@ -62,10 +62,7 @@ func (c coefficients) multiple(p, n int) api.Elem {
 
 // prime returns a_p, the value of the functional at the image of its symbol under T_p.
 func (c coefficients) prime(p int) api.Elem {
-	image := images(c.forms.module, []int{c.orbit.symbol}, p)
-	value, _ := matrix.Mul(image, c.orbit.functional)
-	a, _ := numfield.Normal(c.orbit.field, api.Elem(value.A))
-	return a
+	return c.orbit.value(images(c.forms.module, []int{c.orbit.symbol}, p))
 }
 
 // expansion returns the expansion of the trace of x^j times the newform.

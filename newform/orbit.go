@@ -8,7 +8,9 @@ import (
 	"halfplane/eigen"
 	"halfplane/factor"
 	"halfplane/matrix"
+	"halfplane/numfield"
 	"halfplane/qpoly"
+	"halfplane/rational"
 	"halfplane/zpoly"
 )
 
@@ -18,8 +20,10 @@ type orbit struct {
 	space api.Space
 	// functional has the coordinates of the values, at the basis vectors of the module, of a
 	// linear functional to the field that multiplies by a_n if T_n goes before it. It is 1
-	// at the class of the Manin symbol with the number symbol.
+	// at the class of the Manin symbol with the number symbol. Its columns are divided by
+	// factors, so that its elements are integers.
 	functional api.Matrix
+	factors    []api.Rat
 	symbol     int
 }
 
@@ -60,8 +64,35 @@ func (q quotient) orbit(v api.Space, t api.Matrix, f api.ZPoly) orbit {
 		first++
 	}
 	o.symbol = q.symbols[first]
-	o.functional, _ = matrix.Mul(q.classes, coordinates(values, zpoly.Degree(f)))
+	functional, _ := matrix.Mul(q.classes, coordinates(values, zpoly.Degree(f)))
+	o.functional, o.factors = integralColumns(functional)
 	return o
+}
+
+// value returns the value of the functional at a class, which is the one row of a matrix.
+func (o orbit) value(class api.Matrix) api.Elem {
+	row, _ := matrix.Mul(class, o.functional)
+	for j, f := range o.factors {
+		row.A[j] = rational.Mul(row.A[j], f)
+	}
+	a, _ := numfield.Normal(o.field, api.Elem(row.A))
+	return a
+}
+
+// integralColumns returns a matrix of integers, and numbers by which its columns are to be
+// multiplied to make those of m.
+func integralColumns(m api.Matrix) (api.Matrix, []api.Rat) {
+	columns, _ := matrix.Transpose(m)
+	factors := make([]api.Rat, m.Cols)
+	for j := range factors {
+		column := columns.A[j*m.Rows : (j+1)*m.Rows]
+		var primitive api.ZPoly
+		primitive, factors[j] = qpoly.Clear(column)
+		// Clear omits zeros at the end.
+		copy(column, qpoly.Of(primitive))
+	}
+	integral, _ := matrix.Transpose(columns)
+	return integral, factors
 }
 
 // coordinates returns the matrix whose rows have the coordinates of elements of a field.
