@@ -5,6 +5,7 @@ import (
 	"testing"
 
 	"halfplane/api"
+	"halfplane/bigint"
 	"halfplane/expand"
 	"halfplane/expr"
 	"halfplane/identity"
@@ -61,7 +62,7 @@ func sameRat(x, y api.Rat) bool {
 	return x.Num.Neg == y.Num.Neg && slices.Equal(x.Num.Mag, y.Num.Mag) && x.Den.Neg == y.Den.Neg && slices.Equal(x.Den.Mag, y.Den.Mag)
 }
 
-// sameExpr reports whether normalized expressions have the same fields.
+// sameExpr reports whether expressions have the same fields.
 func sameExpr(x, y api.Expr) bool {
 	return x.Op == y.Op && slices.Equal(x.N, y.N) && sameRat(x.C, y.C) && x.Name == y.Name && slices.EqualFunc(x.Args, y.Args, sameExpr)
 }
@@ -74,6 +75,34 @@ func sameBinding(x, y api.Binding) bool {
 // sameCertificate reports whether certificates have the same fields.
 func sameCertificate(x, y api.Certificate) bool {
 	return sameExpr(x.Left, y.Left) && sameExpr(x.Right, y.Right) && slices.EqualFunc(x.Defs, y.Defs, sameBinding) && x.Kind == y.Kind && x.Bound == y.Bound && same(x.Coef, y.Coef)
+}
+
+// disguise returns an expression with the same value whose numbers are written in another way.
+func disguise(x api.Expr) api.Expr {
+	y := api.Expr{Op: x.Op, N: slices.Clone(x.N), Name: x.Name, C: api.Rat{Num: api.Int{Mag: []uint32{7}}, Den: api.Int{Neg: true, Mag: []uint32{0}}}}
+	if rational.Sign(x.C) != 0 {
+		y.C = api.Rat{Num: sixfold(x.C.Num), Den: sixfold(x.C.Den)}
+	}
+	for _, a := range x.Args {
+		y.Args = append(y.Args, disguise(a))
+	}
+	return y
+}
+
+// sixfold returns -6 times an integer, with a digit 0 in front.
+func sixfold(x api.Int) api.Int {
+	y := bigint.Mul(bigint.Of(-6), x)
+	y.Mag = append(y.Mag, 0)
+	return y
+}
+
+// disguiseAll returns definitions whose numbers are written in another way.
+func disguiseAll(defs []api.Binding) []api.Binding {
+	var l []api.Binding
+	for _, d := range defs {
+		l = append(l, api.Binding{Name: d.Name, Expr: disguise(d.Expr)})
+	}
+	return l
 }
 
 // prove is identity.Prove, which must not fail.

@@ -4,7 +4,6 @@ import (
 	"slices"
 
 	"halfplane/api"
-	"halfplane/expr"
 )
 
 // isSame reports whether two series have the same fields: a certificate contains a series as
@@ -19,19 +18,4 @@ func isSameRat(a, b api.Rat) bool {
 
 func isSameInt(a, b api.Int) bool {
 	return a.Neg == b.Neg && slices.Equal(a.Mag, b.Mag)
-}
-
-// copyOf returns a valid expression anew: a name in it is replaced by itself.
-func copyOf(e api.Expr) api.Expr {
-	c, _ := expr.Substitute(e, "x", api.Expr{Op: api.OpName, Name: "x"})
-	return c
-}
-
-// copyOfAll returns definitions with valid expressions anew.
-func copyOfAll(defs []api.Binding) []api.Binding {
-	var l []api.Binding
-	for _, d := range defs {
-		l = append(l, api.Binding{Name: d.Name, Expr: copyOf(d.Expr)})
-	}
-	return l
 }
